@@ -1,0 +1,1 @@
+"""Everypart: perfect graphs."""

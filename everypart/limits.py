@@ -1,0 +1,17 @@
+"""How large graphs may be."""
+
+from everypart.errors import TooLarge
+
+MOST_VERTICES = 24
+MOST_EXHAUSTIVE = 8
+
+
+def require_vertices(count, most):
+    """Raise TooLarge if there are more than the most vertices."""
+    if count > most:
+        raise TooLarge("vertices")
+
+
+def require_exhaustible(graph):
+    """Raise TooLarge unless all subsets of the graph may be gone through."""
+    require_vertices(graph.size, MOST_EXHAUSTIVE)
