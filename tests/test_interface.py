@@ -1,0 +1,65 @@
+"""The interface: its names, where they are defined, and the names of their parameters."""
+
+import importlib
+import inspect
+import unittest
+
+ERRORS = ("GraphError", "InvalidNumber", "InvalidGraph", "InvalidSubset", "InvalidColoring", "InvalidOrder",
+          "InvalidWeights", "InvalidTree", "InvalidIntervals", "InvalidText", "InvalidCommand", "UnknownCommand",
+          "TooLarge", "Undefined", "NothingToUndo")
+FUNCTIONS = {
+    "subsets": ("is_subset(value, size)", "all_subsets(size)"),
+    "cliques": ("is_clique(graph, subset)", "is_independent(graph, subset)", "clique_number(graph)",
+                "independence_number(graph)", "maximum_cliques(graph)", "maximum_independent_sets(graph)",
+                "maximal_cliques(graph)"),
+    "colorings": ("is_coloring(graph, coloring)", "normal_form(coloring)", "optimal_coloring(graph)",
+                  "greedy_coloring(graph, order)", "chromatic_number(graph)"),
+    "covers": ("clique_cover_number(graph)", "optimal_clique_cover(graph)", "is_clique_cover(graph, value)"),
+    "perfect": ("is_perfect(graph)", "first_bad_subset(graph)", "first_large_subset(graph)"),
+    "minimal": ("is_minimal_imperfect(graph)", "minimal_imperfect_subsets(graph)", "clique_pairs(graph)",
+                "partitions_without(graph, vertex)"),
+    "papers": ("imperfection_paper(graph)", "circular_paper(w, a)", "perfection_paper(graph)",
+               "is_imperfection_paper(graph, paper)", "is_perfection_paper(graph, paper)"),
+}
+METHODS = {"__init__": "(self, size, edges)", "neighbors": "(self, vertex)", "induced": "(self, subset)"}
+CLASS_METHODS = {"complete": "(size)", "edgeless": "(size)", "path": "(size)", "cycle": "(size)", "circular": "(w, a)"}
+SIGNS = ("__len__", "__iter__", "__contains__", "__eq__", "__invert__", "__add__", "__mul__")
+
+
+def names_of(call):
+    """The names of the parameters, told as in the document."""
+    return "(" + ", ".join(inspect.signature(call).parameters) + ")"
+
+
+class InterfaceTest(unittest.TestCase):
+
+    def test_errors(self):
+        module = importlib.import_module("everypart.errors")
+        for name in ERRORS:
+            self.assertTrue(inspect.isclass(getattr(module, name)))
+            self.assertEqual(getattr(module, name).__module__, "everypart.errors")
+
+    def test_functions(self):
+        for file, signatures in FUNCTIONS.items():
+            module = importlib.import_module("everypart." + file)
+            for signature in signatures:
+                call = getattr(module, signature.split("(")[0])
+                self.assertTrue(inspect.isfunction(call), signature)
+                self.assertEqual(call.__name__ + names_of(call), signature)
+                self.assertEqual(call.__module__, "everypart." + file)
+
+    def test_graph(self):
+        graph = importlib.import_module("everypart.graphs").Graph
+        self.assertEqual(graph.__module__, "everypart.graphs")
+        for name, parameters in METHODS.items():
+            self.assertEqual(names_of(vars(graph)[name]), parameters, name)
+        for name, parameters in CLASS_METHODS.items():
+            self.assertIsInstance(vars(graph)[name], classmethod)
+            self.assertEqual(names_of(getattr(graph, name)), parameters, name)
+        for name in SIGNS:
+            self.assertIn(name, vars(graph))
+        self.assertIsInstance(vars(graph)["degrees"], property)
+
+
+if __name__ == "__main__":
+    unittest.main()
