@@ -1,9 +1,13 @@
-"""How large graphs may be."""
+"""How large graphs and numbers may be."""
 
 from everypart.errors import TooLarge
 
 MOST_VERTICES = 24
 MOST_EXHAUSTIVE = 8
+MOST_WEIGHT = 40
+MOST_COVERED = 8
+MOST_IN_LEAF = 7
+MOST_ON_SIDE = 12
 
 
 def require_vertices(count, most):

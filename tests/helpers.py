@@ -5,6 +5,26 @@ from itertools import combinations
 from everypart.graphs import Graph
 
 
+class Dice:
+    """Numbers without an order to be seen, always the same ones."""
+
+    def __init__(self, seed):
+        self.state = seed * 7919 + 12345
+
+    def below(self, count):
+        self.state = (self.state * 1103515245 + 12345) % 2 ** 31
+        return (self.state >> 8) % count
+
+    def pick(self, values):
+        return values[self.below(len(values))]
+
+    def mixed(self, values):
+        left, out = list(values), []
+        while left:
+            out.append(left.pop(self.below(len(left))))
+        return out
+
+
 def nested(value, depth):
     """The value within so many tuples and lists by turns."""
     for level in range(depth):
@@ -151,6 +171,9 @@ def is_plain_subset(value, size):
 
 def variants(value):
     """The value with one place changed, in many ways."""
+    if isinstance(value, str):
+        yield from ("", value + "s", value.upper(), "union", "join", "put", "graph", None, 0, True, (value,), [value])
+        return
     if not isinstance(value, tuple):
         yield from (value + 1, value - 1, bool(value), str(value), None, (value,), [value])
         return
@@ -165,3 +188,76 @@ def variants(value):
             yield tuple(swapped)
         for changed in variants(value[place]):
             yield ahead + (changed,) + behind
+
+
+def exchanged(value, others):
+    """The value with one place, at any depth, exchanged for each of the others."""
+    yield from others
+    if isinstance(value, tuple):
+        for place, member in enumerate(value):
+            for changed in exchanged(member, others):
+                yield value[:place] + (changed,) + value[place + 1:]
+
+
+def is_plain_number(value, most):
+    return value.__class__ is int and 0 <= value <= most
+
+
+def is_weights_plainly(graph, value):
+    if value.__class__ is not tuple or len(value) != graph.size:
+        return False
+    return all(is_plain_number(weight, 40) for weight in value)
+
+
+def independent_sets(graph):
+    """All independent sets but the empty one, in the order of subsets."""
+    return [part for part in nonempty(graph.size) if is_independent_plainly(graph, part)]
+
+
+def weigh(part, weights):
+    return sum(weights[vertex] for vertex in part)
+
+
+def heaviest_plainly(graph, weights):
+    """The greatest weight of a clique, by plain search."""
+    return max([0] + [weigh(part, weights) for part in nonempty(graph.size) if is_clique_plainly(graph, part)])
+
+
+def is_cover_plainly(graph, weights, cover):
+    """Whether a value of any kind is a cover of right weights."""
+    if cover.__class__ is not tuple:
+        return False
+    totals = [0] * graph.size
+    before = None
+    for pair in cover:
+        if pair.__class__ is not tuple or len(pair) != 2 or not is_plain_subset(pair[0], graph.size):
+            return False
+        if pair[0] == () or not is_independent_plainly(graph, pair[0]):
+            return False
+        if pair[1].__class__ is not int or pair[1] < 1 or (before is not None and pair[0] <= before):
+            return False
+        before = pair[0]
+        for vertex in pair[0]:
+            totals[vertex] += pair[1]
+    return totals == list(weights)
+
+
+def pieces_plainly(graph, whole):
+    """The connected pieces of an induced graph, ascending by their least vertices."""
+    left, out = list(whole), []
+    while left:
+        piece = [left[0]]
+        for vertex in piece:
+            piece.extend(other for other in left if joined(graph, vertex, other) and other not in piece)
+        out.append(tuple(sorted(piece)))
+        left = [vertex for vertex in left if vertex not in piece]
+    return out
+
+
+def graphs_in_pieces():
+    """Larger graphs in several pieces, with vertices alone, renumbered too."""
+    beside = Graph.path(1) + Graph.cycle(5) + Graph.path(1) + Graph.complete(4) + Graph.cycle(6) + Graph.path(3)
+    mixed = [renumbered(beside, tuple(Dice(seed).mixed(range(beside.size)))) for seed in range(3)]
+    return [beside] + mixed + [Graph.edgeless(24), Graph.path(1) + Graph.path(1) + Graph.path(22),
+                               Graph.cycle(24), Graph.cycle(3) + Graph.cycle(21), Graph.complete(24),
+                               Graph.cycle(11) + Graph.path(2) + Graph.edgeless(11)]

@@ -136,6 +136,44 @@ class CodeTest(unittest.TestCase):
                 if isinstance(node, ast.Name) and hasattr(builtins, node.id):
                     self.assertIn(node.id, BUILTINS, name)
 
+    def test_identity_is_asked_of_plain_values_alone(self):
+        for name, tree in trees().items():
+            for node in ast.walk(tree):
+                if isinstance(node, ast.Compare) and any(isinstance(sign, (ast.Is, ast.IsNot)) for sign in node.ops):
+                    self.assertIsInstance(node.comparators[0], ast.Constant, (name, node.lineno))
+                    self.assertIn(node.comparators[0].value, (None, True, False), (name, node.lineno))
+
+    def test_sets_are_measured_on_the_spot(self):
+        for name, tree in trees().items():
+            measured = [node.args[0] for node in ast.walk(tree) if isinstance(node, ast.Call)
+                        and isinstance(node.func, ast.Name) and node.func.id in ("len", "sorted")]
+            for node in ast.walk(tree):
+                self.assertNotIsInstance(node, (ast.Set, ast.SetComp), name)
+                if isinstance(node, ast.Call) and isinstance(node.func, ast.Name) and node.func.id == "set":
+                    self.assertIn(node, measured, (name, node.lineno))
+
+    def test_strings_and_powers(self):
+        for name, tree in trees().items():
+            for node in ast.walk(tree):
+                if isinstance(node, ast.Constant) and isinstance(node.value, str):
+                    self.assertNotIn("%", node.value, name)
+                if isinstance(node, ast.BinOp) and isinstance(node.op, ast.Pow):
+                    self.assertIsInstance(node.right, ast.Constant, name)
+
+    def test_calls_pass_what_the_functions_take(self):
+        found = trees()
+        for name, tree in found.items():
+            own = {node.name: node.args for node in tree.body if isinstance(node, ast.FunctionDef)}
+            for module, alias in imports_of(tree):
+                for node in found.get(module.rpartition(".")[2], ast.Module([], [])).body:
+                    if isinstance(node, ast.FunctionDef) and node.name == alias.name:
+                        own[alias.name] = node.args
+            for node in ast.walk(tree):
+                if isinstance(node, ast.Call) and isinstance(node.func, ast.Name) and node.func.id in own:
+                    takes = own[node.func.id]
+                    self.assertEqual(len(node.args), len(takes.args), (name, node.lineno))
+                    self.assertTrue({word.arg for word in node.keywords} <= {word.arg for word in takes.kwonlyargs})
+
     def test_methods(self):
         found = trees()
         classes = [node for tree in found.values() for node in tree.body if isinstance(node, ast.ClassDef)]
