@@ -19,7 +19,20 @@ def all_subsets(size):
     row = [()]
     while row:
         yield from row
-        row = [subset + (vertex,) for subset in row for vertex in range(end_of(subset), size)]
+        row = longer_subsets(row, size)
+
+
+def subsets_of_length(length, size):
+    """All subsets with so many vertices, in Python's order."""
+    row = [()]
+    for _ in range(length):
+        row = longer_subsets(row, size)
+    return row
+
+
+def longer_subsets(row, size):
+    """The subsets of a row, each with each vertex behind its last one put to it."""
+    return [subset + (vertex,) for subset in row for vertex in range(end_of(subset), size)]
 
 
 def end_of(subset):

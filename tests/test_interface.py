@@ -20,6 +20,19 @@ FUNCTIONS = {
                 "partitions_without(graph, vertex)"),
     "papers": ("imperfection_paper(graph)", "circular_paper(w, a)", "perfection_paper(graph)",
                "is_imperfection_paper(graph, paper)", "is_perfection_paper(graph, paper)"),
+    "weights": ("clique_weight(graph, weights)", "cover_number(graph, weights)", "heaviest_cliques(graph, weights)",
+                "replicated(graph, weights)", "is_cover(graph, weights, cover)", "optimal_cover(graph, weights)",
+                "perfect_cover(graph, weights)"),
+    "trees": ("tree_graph(tree)",),
+    "treecolors": ("tree_coloring(tree)", "tree_cover(tree, weights)"),
+    "chordal": ("is_elimination_order(graph, order)", "is_chordless_cycle(graph, value)", "elimination_order(graph)",
+                "chordless_cycle(graph)"),
+    "bipartite": ("sides(graph)", "odd_cycle(graph)"),
+    "cographs": ("cotree(graph)", "cotree_graph(value)", "path_of_four(graph)"),
+    "splits": ("split_partition(graph)", "split_obstacle(graph)", "threshold_obstacle(graph)",
+               "threshold_order(graph)"),
+    "edgecolors": ("edge_coloring(left, right, edges)", "line_graph(left, right, edges)"),
+    "intervals": ("interval_graph(intervals, closed)", "rooms(intervals, closed)", "busiest(intervals, closed)"),
 }
 METHODS = {"__init__": "(self, size, edges)", "neighbors": "(self, vertex)", "induced": "(self, subset)"}
 CLASS_METHODS = {"complete": "(size)", "edgeless": "(size)", "path": "(size)", "cycle": "(size)", "circular": "(w, a)"}
@@ -47,6 +60,13 @@ class InterfaceTest(unittest.TestCase):
                 self.assertTrue(inspect.isfunction(call), signature)
                 self.assertEqual(call.__name__ + names_of(call), signature)
                 self.assertEqual(call.__module__, "everypart." + file)
+
+    def test_closed_is_given_by_name_alone(self):
+        module = importlib.import_module("everypart.intervals")
+        for name in ("interval_graph", "rooms", "busiest"):
+            parameter = inspect.signature(getattr(module, name)).parameters["closed"]
+            self.assertIs(parameter.kind, inspect.Parameter.KEYWORD_ONLY)
+            self.assertIs(parameter.default, True)
 
     def test_graph(self):
         graph = importlib.import_module("everypart.graphs").Graph
