@@ -7,7 +7,8 @@ def reached_from(graph, start, allowed):
     layer = [start]
     while layer:
         following = []
-        for vertex in layer:
+        # The list that is filled here gets the layer's name, so that a copy of the layer is walked.
+        for vertex in list(layer):
             for neighbor in graph.neighbors(vertex):
                 if neighbor in allowed and neighbor not in ahead:
                     ahead[neighbor] = vertex

@@ -17,6 +17,8 @@ SPECIAL = set("""__init__ __eq__ __repr__ __str__ __len__ __iter__ __contains__ 
     __mul__""".split())
 MORE_METHODS = set("""title capitalize swapcase casefold center expandtabs removeprefix removesuffix rindex isascii
     isdecimal isnumeric istitle isidentifier isprintable appendleft popleft extendleft rotate format""".split())
+CHANGING = ("append", "clear", "extend", "insert", "pop", "remove", "reverse", "setdefault", "sort", "update", "add",
+            "discard", "appendleft", "popleft", "extendleft", "rotate")
 BARRED = (ast.AsyncFunctionDef, ast.Await, ast.Div, ast.MatMult, ast.ImportFrom, ast.Import)
 LIBRARY = {"heapq": ("heappush", "heappop", "heapify", "heapreplace", "heappushpop"),
            "math": ("gcd", "lcm", "isqrt", "comb", "perm", "factorial"),
@@ -45,6 +47,48 @@ def bound_at_top(tree):
 def imports_of(tree):
     """The pairs of a module and a name that a file imports from it."""
     return [(node.module, alias) for node in tree.body if isinstance(node, ast.ImportFrom) for alias in node.names]
+
+
+def same_names(function):
+    """For each name of a function all names that may be given to what it names, by plain assignments."""
+    groups = {}
+    for node in ast.walk(function):
+        if isinstance(node, ast.Assign):
+            choices = [node.value]
+            if isinstance(node.value, ast.IfExp):
+                choices = [node.value.body, node.value.orelse]
+            if isinstance(node.value, ast.BoolOp):
+                choices = node.value.values
+            names = [part.id for part in node.targets + choices if isinstance(part, ast.Name)]
+            whole = set(names).union(*[groups.get(name, set()) for name in names])
+            groups.update({name: whole for name in whole})
+    return groups
+
+
+def walked_names(node):
+    """The names that a loop or comprehension walks itself, not as a copy."""
+    if isinstance(node, ast.Name):
+        return [node.id]
+    if isinstance(node, (ast.IfExp, ast.BoolOp)):
+        return [name for part in ast.iter_child_nodes(node) for name in walked_names(part)]
+    if isinstance(node, ast.Call) and isinstance(node.func, ast.Name):
+        if node.func.id not in ("enumerate", "zip", "reversed"):
+            return []
+        return [name for part in node.args for name in walked_names(part)]
+    if isinstance(node, ast.Call) and isinstance(node.func, ast.Attribute):
+        return walked_names(node.func.value)
+    return []
+
+
+def changed_names(rows):
+    """The names of what is changed in these rows: by a method, an item that is assigned, or one that is removed."""
+    for node in [node for row in rows for node in ast.walk(row)]:
+        if isinstance(node, ast.Call) and isinstance(node.func, ast.Attribute) and node.func.attr in CHANGING:
+            node = node.func
+        elif not isinstance(node, ast.Subscript) or isinstance(node.ctx, ast.Load):
+            continue
+        if isinstance(node.value, ast.Name):
+            yield node.value.id
 
 
 class FilesTest(unittest.TestCase):
@@ -173,6 +217,17 @@ class CodeTest(unittest.TestCase):
                     takes = own[node.func.id]
                     self.assertEqual(len(node.args), len(takes.args), (name, node.lineno))
                     self.assertTrue({word.arg for word in node.keywords} <= {word.arg for word in takes.kwonlyargs})
+
+    def test_loops_do_not_change_what_they_walk(self):
+        functions = [(name, node) for name, tree in trees().items() for node in ast.walk(tree)
+                     if isinstance(node, ast.FunctionDef)]
+        for name, function in functions:
+            same = same_names(function)
+            for loop in ast.walk(function):
+                if isinstance(loop, ast.For):
+                    walked = walked_names(loop.iter)
+                    barred = set(walked).union(*[same.get(word, set()) for word in walked])
+                    self.assertEqual(barred.intersection(changed_names(loop.body)), set(), (name, loop.lineno))
 
     def test_methods(self):
         found = trees()
