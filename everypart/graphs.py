@@ -1,7 +1,7 @@
 """Graphs of at most 24 vertices."""
 
 from everypart.errors import InvalidGraph, InvalidNumber, InvalidSubset
-from everypart.kinds import is_between, is_integer, is_pair, is_sequence
+from everypart.kinds import first_fault, is_between, is_integer, is_pair, is_sequence
 from everypart.limits import MOST_VERTICES, require_vertices
 from everypart.subsets import is_subset, vertex_pairs
 
@@ -109,13 +109,7 @@ def first_wrong_edge(size, edges):
     """The place of the first of edges that cannot stand there, or None."""
     if not is_sequence(edges):
         return 0
-    # No edge, but below the least one, so that the first edge is no special case.
-    before = (0, 0)
-    for place, edge in enumerate(edges):
-        if not is_edge(edge, size) or edge <= before:
-            return place
-        before = edge
-    return None
+    return first_fault(edges, [is_edge(edge, size) for edge in edges])
 
 
 def is_edge(value, size):

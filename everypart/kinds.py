@@ -31,3 +31,11 @@ def is_order(value, size):
     if not isinstance(value, tuple) or not all([is_integer(number) for number in value]):
         return False
     return sorted(value) == list(range(size))
+
+
+def first_fault(values, are_right):
+    """The place of the first of values that is not right or not above the one ahead of it, or None."""
+    for place, value in enumerate(values):
+        if not are_right[place] or (place > 0 and value <= values[place - 1]):
+            return place
+    return None

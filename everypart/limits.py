@@ -8,6 +8,7 @@ MOST_WEIGHT = 40
 MOST_COVERED = 8
 MOST_IN_LEAF = 7
 MOST_ON_SIDE = 12
+MOST_FRACTIONAL = 7
 
 
 def require_vertices(count, most):

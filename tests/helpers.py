@@ -3,6 +3,7 @@
 from itertools import combinations
 
 from everypart.graphs import Graph
+from everypart.shares import Share
 
 
 class Dice:
@@ -60,10 +61,12 @@ def assert_keeps(test, error, name, value, call):
 
 
 def assert_tuples(test, value):
-    """No list is in the value, nor anything but tuples and integers."""
+    """No list is in the value, nor anything but tuples, shares and integers."""
     if isinstance(value, tuple):
         for member in value:
             assert_tuples(test, member)
+    elif isinstance(value, Share):
+        assert_tuples(test, (value.over, value.under))
     else:
         test.assertIs(value.__class__, int)
 
@@ -173,6 +176,12 @@ def variants(value):
     """The value with one place changed, in many ways."""
     if isinstance(value, str):
         yield from ("", value + "s", value.upper(), "union", "join", "put", "graph", None, 0, True, (value,), [value])
+        return
+    if isinstance(value, Share):
+        for over, under in ((1, 1), (-1, 1), (1, 2), (-1, 2), (0, 1), (1, 10 ** 40)):
+            yield value + Share(over, under)
+        yield from (value - value, value - value - value, value.over, (value.over, value.under), [value], (value,), None,
+                    True, str(value.over))
         return
     if not isinstance(value, tuple):
         yield from (value + 1, value - 1, bool(value), str(value), None, (value,), [value])

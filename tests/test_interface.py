@@ -33,10 +33,26 @@ FUNCTIONS = {
                "threshold_order(graph)"),
     "edgecolors": ("edge_coloring(left, right, edges)", "line_graph(left, right, edges)"),
     "intervals": ("interval_graph(intervals, closed)", "rooms(intervals, closed)", "busiest(intervals, closed)"),
+    "fractional": ("fractional_number(graph, weights)", "fractional_cover(graph, weights)",
+                   "fractional_clique(graph, weights)", "is_fractional_cover(graph, weights, value)",
+                   "is_fractional_clique(graph, value)"),
+    "matchings": ("maximum_matching(graph)", "vertex_cover(graph)"),
+    "posets": ("comparability_graph(poset)", "chains(poset)", "levels(poset)", "largest_antichain(poset)",
+               "longest_chain(poset)"),
 }
-METHODS = {"__init__": "(self, size, edges)", "neighbors": "(self, vertex)", "induced": "(self, subset)"}
-CLASS_METHODS = {"complete": "(size)", "edgeless": "(size)", "path": "(size)", "cycle": "(size)", "circular": "(w, a)"}
-SIGNS = ("__len__", "__iter__", "__contains__", "__eq__", "__invert__", "__add__", "__mul__")
+# For each class its file, the methods it defines itself, its class methods and its properties.
+CLASSES = {
+    "Graph": ("graphs", {"__init__": "(self, size, edges)", "neighbors": "(self, vertex)", "induced": "(self, subset)",
+                         "__len__": "(self)", "__iter__": "(self)", "__contains__": "(self, value)",
+                         "__eq__": "(self, other)", "__invert__": "(self)", "__add__": "(self, other)",
+                         "__mul__": "(self, other)"},
+              {"complete": "(size)", "edgeless": "(size)", "path": "(size)", "cycle": "(size)", "circular": "(w, a)"},
+              ("degrees",)),
+    "Share": ("shares", {"__init__": "(self, over, under)", "is_below": "(self, other)", "__eq__": "(self, other)",
+                         "__add__": "(self, other)", "__sub__": "(self, other)", "__mul__": "(self, other)"},
+              {"whole": "(number)"}, ()),
+    "Poset": ("posets", {"__init__": "(self, size, pairs)", "is_below": "(self, a, b)"}, {}, ()),
+}
 
 
 def names_of(call):
@@ -68,17 +84,19 @@ class InterfaceTest(unittest.TestCase):
             self.assertIs(parameter.kind, inspect.Parameter.KEYWORD_ONLY)
             self.assertIs(parameter.default, True)
 
-    def test_graph(self):
-        graph = importlib.import_module("everypart.graphs").Graph
-        self.assertEqual(graph.__module__, "everypart.graphs")
-        for name, parameters in METHODS.items():
-            self.assertEqual(names_of(vars(graph)[name]), parameters, name)
-        for name, parameters in CLASS_METHODS.items():
-            self.assertIsInstance(vars(graph)[name], classmethod)
-            self.assertEqual(names_of(getattr(graph, name)), parameters, name)
-        for name in SIGNS:
-            self.assertIn(name, vars(graph))
-        self.assertIsInstance(vars(graph)["degrees"], property)
+    def test_classes(self):
+        for name, (file, methods, class_methods, properties) in CLASSES.items():
+            own = getattr(importlib.import_module("everypart." + file), name)
+            self.assertTrue(inspect.isclass(own))
+            self.assertEqual(own.__module__, "everypart." + file)
+            for method, parameters in methods.items():
+                self.assertTrue(inspect.isfunction(vars(own)[method]), (name, method))
+                self.assertEqual(names_of(vars(own)[method]), parameters, (name, method))
+            for method, parameters in class_methods.items():
+                self.assertIsInstance(vars(own)[method], classmethod)
+                self.assertEqual(names_of(getattr(own, method)), parameters, (name, method))
+            for member in properties:
+                self.assertIsInstance(vars(own)[member], property)
 
 
 if __name__ == "__main__":

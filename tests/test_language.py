@@ -10,6 +10,8 @@ BUILTINS = set("""len range enumerate zip min max sum abs sorted reversed int st
     isinstance ord repr any all divmod pow iter next getattr hasattr setattr type map property classmethod staticmethod
     super Exception ValueError TypeError KeyError IndexError LookupError ZeroDivisionError ArithmeticError OverflowError
     RuntimeError NotImplementedError AttributeError StopIteration NotImplemented""".split())
+# Examples that are run in test_readme leave a `_` behind.
+PYTHONS_NAMES = set(dir(builtins)) - {"_"}
 METHODS = set("""append clear copy count endswith extend find get index insert isalnum isalpha isdigit islower isspace
     isupper items join keys ljust lower lstrip partition pop remove replace reverse rfind rjust rpartition rsplit rstrip
     setdefault split splitlines startswith strip update upper values zfill bit_length add discard""".split())
@@ -171,13 +173,13 @@ class CodeTest(unittest.TestCase):
         for name, tree in trees().items():
             barred = {alias.name for _, alias in imports_of(tree)}
             barred = barred.union(node.name for node in tree.body if isinstance(node, ast.ClassDef))
-            barred = barred.union(dir(builtins))
+            barred = barred.union(PYTHONS_NAMES)
             for node in ast.walk(tree):
                 if isinstance(node, ast.arg):
                     self.assertNotIn(node.arg, barred, name)
                 if isinstance(node, ast.Name) and not isinstance(node.ctx, ast.Load):
                     self.assertNotIn(node.id, barred, name)
-                if isinstance(node, ast.Name) and hasattr(builtins, node.id):
+                if isinstance(node, ast.Name) and node.id in PYTHONS_NAMES:
                     self.assertIn(node.id, BUILTINS, name)
 
     def test_identity_is_asked_of_plain_values_alone(self):
