@@ -9,6 +9,7 @@ MOST_COVERED = 8
 MOST_IN_LEAF = 7
 MOST_ON_SIDE = 12
 MOST_FRACTIONAL = 7
+MOST_COLORS = 1000
 
 
 def require_vertices(count, most):

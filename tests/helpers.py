@@ -180,8 +180,8 @@ def variants(value):
     if isinstance(value, Share):
         for over, under in ((1, 1), (-1, 1), (1, 2), (-1, 2), (0, 1), (1, 10 ** 40)):
             yield value + Share(over, under)
-        yield from (value - value, value - value - value, value.over, (value.over, value.under), [value], (value,), None,
-                    True, str(value.over))
+        yield from (value - value, value - value - value, value.over, (value.over, value.under), [value], (value,),
+                    None, True, str(value.over))
         return
     if not isinstance(value, tuple):
         yield from (value + 1, value - 1, bool(value), str(value), None, (value,), [value])
@@ -270,3 +270,33 @@ def graphs_in_pieces():
     return [beside] + mixed + [Graph.edgeless(24), Graph.path(1) + Graph.path(1) + Graph.path(22),
                                Graph.cycle(24), Graph.cycle(3) + Graph.cycle(21), Graph.complete(24),
                                Graph.cycle(11) + Graph.path(2) + Graph.edgeless(11)]
+
+
+def is_simplicial_plainly(graph, vertex, left):
+    return is_clique_plainly(graph, [other for other in left if joined(graph, vertex, other)])
+
+
+def order_plainly(graph):
+    """The order of least simplicial vertices, or None."""
+    left, order = list(graph), []
+    while left:
+        found = [vertex for vertex in left if is_simplicial_plainly(graph, vertex, left)]
+        if not found:
+            return None
+        order.append(min(found))
+        left.remove(min(found))
+    return tuple(order)
+
+
+def chordal_graphs():
+    """Chordal graphs of 24 vertices: each vertex is joined to a clique of those ahead of it, then all renumbered."""
+    for seed in range(12):
+        dice = Dice(seed)
+        edges = []
+        for vertex in range(1, 24):
+            clique = []
+            for other in dice.mixed(range(vertex)):
+                if len(clique) < seed and all((min(other, one), max(other, one)) in edges for one in clique):
+                    clique.append(other)
+            edges.extend((other, vertex) for other in clique)
+        yield renumbered(Graph(24, sorted(edges)), tuple(dice.mixed(range(24))))

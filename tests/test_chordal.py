@@ -8,29 +8,13 @@ from everypart.colorings import chromatic_number, greedy_coloring
 from everypart.errors import InvalidOrder, Undefined
 from everypart.graphs import Graph
 from everypart.perfect import is_perfect
-from tests.helpers import (Dice, all_graphs, assert_error, assert_keeps, assert_tuples, exchanged, graphs_in_pieces,
-                           graphs_up_to, is_clique_plainly, joined, nested, renumbered, some_graphs,
-                           values_of_all_kinds, variants)
-
-
-def is_simplicial_plainly(graph, vertex, left):
-    return is_clique_plainly(graph, [other for other in left if joined(graph, vertex, other)])
+from tests.helpers import (Dice, all_graphs, assert_error, assert_keeps, assert_tuples, chordal_graphs, exchanged,
+                           graphs_in_pieces, graphs_up_to, is_simplicial_plainly, nested, order_plainly,
+                           some_graphs, values_of_all_kinds, variants)
 
 
 def is_order_plainly(graph, order):
     return all(is_simplicial_plainly(graph, vertex, order[place:]) for place, vertex in enumerate(order))
-
-
-def order_plainly(graph):
-    """The order of least simplicial vertices, or None."""
-    left, order = list(graph), []
-    while left:
-        found = [vertex for vertex in left if is_simplicial_plainly(graph, vertex, left)]
-        if not found:
-            return None
-        order.append(min(found))
-        left.remove(min(found))
-    return tuple(order)
 
 
 def is_cycle_plainly(graph, value):
@@ -43,20 +27,6 @@ def is_cycle_plainly(graph, value):
         return False
     ring = sorted(tuple(sorted(pair)) for pair in zip(value, value[1:] + value[:1]))
     return ring == [edge for edge in graph.edges if set(edge) <= set(value)]
-
-
-def chordal_graphs():
-    """Chordal graphs of 24 vertices: each vertex is joined to a clique of those ahead of it, then all renumbered."""
-    for seed in range(12):
-        dice = Dice(seed)
-        edges = []
-        for vertex in range(1, 24):
-            clique = []
-            for other in dice.mixed(range(vertex)):
-                if len(clique) < seed and all((min(other, one), max(other, one)) in edges for one in clique):
-                    clique.append(other)
-            edges.extend((other, vertex) for other in clique)
-        yield renumbered(Graph(24, sorted(edges)), tuple(dice.mixed(range(24))))
 
 
 class OrderTest(unittest.TestCase):

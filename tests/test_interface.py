@@ -39,6 +39,11 @@ FUNCTIONS = {
     "matchings": ("maximum_matching(graph)", "vertex_cover(graph)"),
     "posets": ("comparability_graph(poset)", "chains(poset)", "levels(poset)", "largest_antichain(poset)",
                "longest_chain(poset)"),
+    "permutations": ("inversion_graph(order)", "piles(order)", "longest_fall(order)"),
+    "cliquetrees": ("clique_tree(graph)", "is_clique_tree(graph, value)"),
+    "polynomials": ("coloring_count(graph, colors)", "chromatic_polynomial(graph)"),
+    "graphtexts": ("write_graph(graph)", "read_graph(text)"),
+    "desk": ("replayed_desk(graph, commands)",),
 }
 # For each class its file, the methods it defines itself, its class methods and its properties.
 CLASSES = {
@@ -52,6 +57,7 @@ CLASSES = {
                          "__add__": "(self, other)", "__sub__": "(self, other)", "__mul__": "(self, other)"},
               {"whole": "(number)"}, ()),
     "Poset": ("posets", {"__init__": "(self, size, pairs)", "is_below": "(self, a, b)"}, {}, ()),
+    "Desk": ("desk", {"__init__": "(self, graph)", "run": "(self, command)"}, {}, ()),
 }
 
 
@@ -97,6 +103,17 @@ class InterfaceTest(unittest.TestCase):
                 self.assertEqual(names_of(getattr(own, method)), parameters, (name, method))
             for member in properties:
                 self.assertIsInstance(vars(own)[member], property)
+
+    def test_attributes_are_set_on_each_object(self):
+        for file, name, arguments, attributes in (
+                ("graphs", "Graph", (2, ((0, 1),)), ("size", "edges")), ("shares", "Share", (2, 4), ("over", "under")),
+                ("posets", "Poset", (2, ((1, 0),)), ("size", "pairs"))):
+            made = getattr(importlib.import_module("everypart." + file), name)(*arguments)
+            for attribute in attributes:
+                self.assertIn(attribute, vars(made))
+        graph = importlib.import_module("everypart.graphs").Graph(1, ())
+        made = importlib.import_module("everypart.desk").Desk(graph)
+        self.assertEqual((vars(made)["graph"], vars(made)["commands"]), (graph, ()))
 
 
 if __name__ == "__main__":
