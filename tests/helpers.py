@@ -2,7 +2,9 @@
 
 from itertools import combinations
 
+from everypart.desk import Desk
 from everypart.graphs import Graph
+from everypart.posets import Poset
 from everypart.shares import Share
 
 
@@ -35,10 +37,13 @@ def nested(value, depth):
 
 def values_of_all_kinds():
     """Values that are no edge, no number below 24 and no tuple of such."""
-    graph = Graph.path(2)
-    return [True, False, None, "", "a", "ab", "0", -1, 24, 10 ** 30, [], [0], [0, 1], (True,), (None,), ("0",), ([],),
-            (0, False), (False, 1), (0, True), (0, -1), (-1, 0), (0, 24), ((0, 1),), [(0, 1)], ((0,), (1,)), graph,
-            (graph,), [graph, 0], ((), ()), [[0], [1]], nested(0, 10), nested(0, 9), nested((0, 1), 8)]
+    graph, share, poset = Graph.path(2), Share(3, 2), Poset(2, ((1, 0),))
+    objects = [graph, (graph,), [graph, 0], share, (share,), (share, share), [share], (0, share), poset, (poset, 1),
+               [poset], Desk(graph), (Desk(graph),)]
+    others = [True, False, None, "", "a", "ab", "0", -1, 24, 10 ** 30, [], [0], [0, 1], (True,), (None,), ("0",), ([],),
+              (0, False), (False, 1), (0, True), (0, -1), (-1, 0), (0, 24), ((0, 1),), [(0, 1)], ((0,), (1,)), ((), ()),
+              [[0], [1]], nested(0, 10), nested(0, 9), nested((0, 1), 8)]
+    return objects + others
 
 
 def assert_error(test, error, call, **attributes):
