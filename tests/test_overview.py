@@ -142,10 +142,11 @@ class AllFunctionsTest(unittest.TestCase):
     def test_what_tells_whether_is_a_bool(self):
         five, four = Graph.cycle(5), Graph.cycle(4)
         answers = [is_clique(five, (0, 1)), is_clique(five, (0, 2)), is_independent(five, (0, 1)), is_clique(five, ()),
-                   is_coloring(four, (0, 1, 0, 1)), is_coloring(four, (0,) * 4),
-                   is_clique_cover(four, ((0, 1), (2, 3))), is_clique_cover(four, ()), is_perfect(five), is_perfect(four),
-                   is_minimal_imperfect(five), is_minimal_imperfect(four), is_imperfection_paper(five, circular_paper(2, 2)), (0, 1) in four,
-                   is_imperfection_paper(five, ()), is_perfection_paper(four, perfection_paper(four)),
+                   is_coloring(four, (0, 1, 0, 1)), is_coloring(four, (0,) * 4), is_clique_cover(four, ()),
+                   is_clique_cover(four, ((0, 1), (2, 3))), is_perfect(five), is_perfect(four), (0, 1) in four,
+                   is_minimal_imperfect(five), is_minimal_imperfect(four),
+                   is_imperfection_paper(five, circular_paper(2, 2)), is_imperfection_paper(five, ()),
+                   is_perfection_paper(four, perfection_paper(four)),
                    is_perfection_paper(four, ()), four == five, four != five, is_elimination_order(four, (0, 1, 2, 3)),
                    is_chordless_cycle(four, (0, 1, 2, 3)), is_cover(four, (1,) * 4, ()), is_cover(four, (0,) * 4, ()),
                    is_fractional_cover(four, (0,) * 4, ()), is_fractional_clique(four, (Share(1, 2),) * 4),
